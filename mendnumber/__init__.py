@@ -1,0 +1,1 @@
+"""Mendnumber: the greatest cost of changing one form into another form."""

@@ -1,0 +1,1 @@
+"""What everything else is made of: integers, words and prices."""
