@@ -1,9 +1,23 @@
 import doctest
+import pathlib
 import unittest
 
+from mendnumber.base.changes import alignment, changed, distance, least_changes, undone
 from mendnumber.base.prices import Prices
 from mendnumber.base.words import ordered, words_upto
+from mendnumber.forms.form import Form, is_least
+from mendnumber.forms.joins import first_apart
+from mendnumber.forms.patterns import read_pattern, turned_pattern
+from values import AHEAD, ANY, ONE, PAIRS, SLOW, THREES
 
+VALUES = """
+>>> ANY == Form((({"a": 0}, True),)) and PAIRS == Form((({"a": 1}, True), ({"b": 0}, False)))
+True
+>>> THREES == Form((({"a": 1}, True), ({"a": 2}, False), ({"a": 0}, False)))
+True
+>>> AHEAD == Form((({"a": 0, "b": 1}, True), ({"b": 1}, True))) and ONE == Prices.even(("a", "b"))
+True
+"""
 STAGE_1 = """
 >>> [ordered(("b", "ab", "", "b")), list(words_upto(("a", "b"), 2))]
 [('', 'b', 'ab'), ['', 'a', 'b', 'aa', 'ab', 'ba', 'bb']]
@@ -14,14 +28,47 @@ STAGE_1 = """
 >>> [ONE.put, ONE.out, ONE.swap]
 [{'a': 1, 'b': 1}, {'a': 1, 'b': 1}, {('a', 'b'): 1, ('b', 'a'): 1}]
 """
+STAGE_2 = """
+>>> [changed("ab", (("put", 2, "a"), ("swap", 0, "b"), ("out", 1))), undone("ab", (("out", 0), ("swap", 0, "a")))]
+['ba', (('swap', 0, 'b'), ('put', 0, 'a'))]
+>>> [distance("", "a", SLOW), least_changes("", "a", SLOW), distance("abab", "aab", ONE), alignment("ab", "b", ONE)]
+[2, (('put', 0, 'b'), ('swap', 0, 'a')), 1, ((0, None), (1, 0))]
+"""
+STAGE_3 = """
+>>> [PAIRS.walk("abb"), "abab" in PAIRS, list(PAIRS.words(4)), AHEAD.count(3), THREES.is_finite(), str(PAIRS)]
+[(0, 1, 0), True, ['', 'ab', 'abab'], 4, False, 'form of 2 states, 2 signs']
+>>> TWICE = Form((({"b": 1}, True), ({"b": 0}, True)))
+>>> [TWICE.least().states, is_least(TWICE), len(Form.of_words(("ab", "b"))), AHEAD.with_last(0, False).first]
+[(({'b': 0}, True),), False, 3, 'b']
+"""
+STAGE_4 = """
+>>> [(ANY | PAIRS).states[0], len(ANY & THREES), list((ANY - THREES).words(4)), len(PAIRS.backward()), first_apart(AHEAD, PAIRS)]
+[({'a': 1}, True), 3, ['a', 'aa', 'aaaa'], 2, 'a']
+"""
+STAGE_5 = """
+>>> [read_pattern("(ab)*") == PAIRS, read_pattern("(aaa)*") == THREES, list(read_pattern("a(b|())c?").words(3)), turned_pattern("a(b|cd)*e")]
+[True, True, ['a', 'ab', 'ac', 'abc'], 'e(b|dc)*a']
+"""
 
 
 class ExamplesTest(unittest.TestCase):
-    def check(self, text, **names):
-        case = doctest.DocTestParser().get_doctest(text, names, "examples", None, 0)
+    def check(self, text, names):
+        case = doctest.DocTestParser().get_doctest(text, dict(names), "examples", None, 0)
         report = []
         failed, tried = doctest.DocTestRunner().run(case, out=report.append)
         self.assertEqual((failed, tried), (0, text.count(">>> ")), "".join(report))
 
-    def test_stage_1(self):
-        self.check(STAGE_1, Prices=Prices, ordered=ordered, words_upto=words_upto)
+    def test_examples(self):
+        for text in (VALUES, STAGE_1, STAGE_2, STAGE_3, STAGE_4, STAGE_5):
+            self.check(text, globals())
+
+    def test_readme(self):
+        text = (pathlib.Path(__file__).parent.parent / "README.md").read_text()
+        code = text.split("```python\n")[1].split("```")[0]
+        names = {}
+        for row in code.splitlines():
+            told = row.split("  # ")
+            if len(told) == 2 and told[1].startswith("-> "):
+                self.assertEqual(repr(eval(told[0], names)), told[1][3:], row)
+            else:
+                exec(told[0], names)

@@ -95,3 +95,86 @@ class LanguageTest(unittest.TestCase):
             if isinstance(node.func, ast.Name) and node.func.id in ("any", "all", "min", "max", "sum", "sorted"):
                 with self.subTest(place):
                     self.assertFalse(any(isinstance(given, ast.GeneratorExp) for given in node.args), "L7")
+
+
+class OperatorsTest(unittest.TestCase):
+    """L5: what operators, properties, `__eq__`, `__str__` and `__len__` run changes only what it makes itself."""
+
+    def setUp(self):
+        self.found = {}
+        self.roots = []
+        for path in files():
+            for node in ast.walk(ast.parse(path.read_text())):
+                if isinstance(node, ast.ClassDef):
+                    for method in node.body:
+                        if isinstance(method, ast.FunctionDef):
+                            self.enter(method, f"{node.name}.{method.name}")
+                            told = [ast.unparse(decorator) for decorator in method.decorator_list]
+                            if method.name.startswith("__") and method.name != "__init__" or "property" in told:
+                                self.roots.append(method)
+                elif isinstance(node, ast.FunctionDef):
+                    self.enter(node, node.name)
+
+    def enter(self, node, name):
+        short = name.split(".")[-1]
+        if short == "__init__":
+            short = name.split(".")[0]
+        self.found.setdefault(short, []).append(node)
+
+    def reached(self):
+        queue, seen = list(self.roots), []
+        while queue:
+            node = queue.pop()
+            if node in seen:
+                continue
+            seen.append(node)
+            for call in ast.walk(node):
+                if isinstance(call, ast.Call):
+                    name = call.func.id if isinstance(call.func, ast.Name) else call.func.attr
+                    if name in self.found:
+                        queue.extend(self.found[name])
+        return seen
+
+    def own(self, node):
+        """The names that a function assigns only what it has just made."""
+        made, other = set(), {argument.arg for argument in node.args.args + node.args.kwonlyargs}
+        for part in ast.walk(node):
+            if isinstance(part, ast.Assign):
+                for target in part.targets:
+                    if isinstance(target, ast.Name):
+                        fresh = isinstance(part.value, (ast.List, ast.Dict, ast.ListComp)) or (
+                            isinstance(part.value, ast.Call) and isinstance(part.value.func, ast.Name)
+                            and part.value.func.id in ("list", "dict", "sorted"))
+                        (made if fresh else other).add(target.id)
+        return made - other
+
+    def test_what_operators_run_changes_nothing_else(self):
+        modifying = {"append", "clear", "extend", "insert", "pop", "remove", "reverse", "setdefault", "update", "add",
+                     "discard", "sort"}
+        reached = self.reached()
+        self.assertGreater(len(reached), 20)
+        for node in reached:
+            own = self.own(node)
+            arguments = {argument.arg for argument in node.args.args}
+            for part in ast.walk(node):
+                with self.subTest(f"{node.name}, {getattr(part, 'lineno', 0)}"):
+                    if isinstance(part, ast.Call):
+                        if isinstance(part.func, ast.Attribute) and part.func.attr in modifying:
+                            self.assertIsInstance(part.func.value, ast.Name)
+                            self.assertIn(part.func.value.id, own)
+                        if isinstance(part.func, ast.Name):
+                            self.assertNotIn(part.func.id, arguments - {"cls"})
+                            self.assertNotIn(part.func.id, ("map", "heappush", "heappop"))
+                    if isinstance(part, ast.AugAssign):
+                        self.assertIsInstance(part.target, ast.Name)
+                        self.assertIsInstance(part.value, ast.Constant)
+                    if isinstance(part, ast.Assign):
+                        for target in part.targets:
+                            self.check_target(node, target, own)
+
+    def check_target(self, node, target, own):
+        if isinstance(target, ast.Attribute):
+            self.assertEqual(node.name, "__init__")
+        if isinstance(target, ast.Subscript):
+            self.assertIsInstance(target.value, ast.Name)
+            self.assertIn(target.value.id, own)

@@ -58,7 +58,7 @@ class Prices:
 
     def closed(self):
         """The least prices with which all costs are the same."""
-        costs = _least_costs(self._put, self._out, self._swap)
+        costs = costs_by_ends(self)
         return Prices(
             put={sign: costs["", sign] for sign in self._signs},
             out={sign: costs[sign, ""] for sign in self._signs},
@@ -71,12 +71,11 @@ class Prices:
 
     def is_at_most(self, other):
         """Whether both have the same signs, and no closed price is greater than the other's."""
-        if not isinstance(other, Prices):
-            raise InvalidPrices("only prices can be compared with prices")
+        check_prices(other)
         if self._signs != other._signs:
             return False
-        costs = _least_costs(self._put, self._out, self._swap)
-        limits = _least_costs(other._put, other._out, other._swap)
+        costs = costs_by_ends(self)
+        limits = costs_by_ends(other)
         return all([costs[way] <= limits[way] for way in costs])
 
     def with_price(self, change, price):
@@ -97,7 +96,7 @@ class Prices:
     def limited(self, signs):
         """The prices for these signs alone."""
         check_signs(signs)
-        if not all([sign in self._signs for sign in signs]):
+        if not have_signs(self, signs):
             raise InvalidOperation("a sign has no prices")
         return Prices(
             put={sign: self._put[sign] for sign in signs},
@@ -131,6 +130,22 @@ class Prices:
 
     def __str__(self):
         return f"prices of {len(self._signs)} signs, {len(self._swap)} swaps"
+
+
+def check_prices(prices):
+    """Refuse a value that is no prices."""
+    if not isinstance(prices, Prices):
+        raise InvalidPrices("these are no prices")
+
+
+def have_signs(prices, signs):
+    """Whether all signs of a word or a tuple have prices."""
+    return all([sign in prices for sign in signs])
+
+
+def costs_by_ends(prices):
+    """The costs between all of "" and the words of one sign, by pairs of these words."""
+    return _least_costs(prices.put, prices.out, prices.swap)
 
 
 def _are_tables(put, out, swap):

@@ -19,6 +19,12 @@ def is_word(value):
     return isinstance(value, str) and value.strip(SIGNS) == ""
 
 
+def check_word(word):
+    """Refuse a value that is not a word of at most MAX_WORD signs."""
+    if not is_word(word) or len(word) > MAX_WORD:
+        raise InvalidWord("not a word, or one with too many signs")
+
+
 def check_signs(signs):
     """Refuse a value that is not an ascending tuple of at least one sign."""
     if not isinstance(signs, tuple) or not signs:

@@ -1,0 +1,1 @@
+"""Forms: finite machines that tell which words there are."""
