@@ -5,9 +5,13 @@ import unittest
 from mendnumber.base.changes import alignment, changed, distance, least_changes, undone
 from mendnumber.base.prices import Prices
 from mendnumber.base.words import ordered, words_upto
+from mendnumber.core.costs import cost, costs_by, is_mending, mending, nearest_words
+from mendnumber.core.rows import end_cost, row_behind, row_of, start_row
+from mendnumber.decide.tables import costs_at_most, first_above, is_bound_table, level_form
 from mendnumber.forms.form import Form, is_least
 from mendnumber.forms.joins import first_apart
 from mendnumber.forms.patterns import read_pattern, turned_pattern
+from mendnumber.rings.rings import Rings, covers, lacking_piece
 from values import AHEAD, ANY, ONE, PAIRS, SLOW, THREES
 
 VALUES = """
@@ -49,6 +53,30 @@ STAGE_5 = """
 >>> [read_pattern("(ab)*") == PAIRS, read_pattern("(aaa)*") == THREES, list(read_pattern("a(b|())c?").words(3)), turned_pattern("a(b|cd)*e")]
 [True, True, ['a', 'ab', 'ac', 'abc'], 'e(b|dc)*a']
 """
+STAGE_6 = """
+>>> [start_row(THREES, ONE), row_of(THREES, ONE, "aa"), end_cost(THREES, row_of(THREES, ONE, "aa")), row_behind(THREES, ONE, (5, 0, 7), "b")]
+[(0, 1, 2), (1, 1, 0), 1, (2, 1, 1)]
+"""
+STAGE_7 = """
+>>> [cost("aa", THREES, ONE), list(nearest_words("aa", THREES, ONE)), cost("ba", PAIRS, ONE), list(nearest_words("ba", PAIRS, ONE))]
+[1, ['aaa'], 2, ['', 'ab', 'abab']]
+>>> [changed("aa", mending("aa", THREES, ONE)), is_mending("aa", THREES, ONE, (("put", 1, "a"),)), costs_by(ANY, THREES, ONE, many=2)]
+['aaa', True, {'': 0, 'a': 1, 'aa': 1}]
+"""
+STAGE_8 = """
+>>> [costs_at_most(ANY, THREES, ONE, 1), first_above(ANY, THREES, ONE, 0), first_above(ANY, PAIRS, ONE, 3), level_form(ANY, THREES, ONE, 0) == THREES]
+[True, 'a', 'aaaaaaa', True]
+>>> table = {0: ((0, 1, 2), (1, 0, 1), (1, 1, 0))}
+>>> [is_bound_table(ANY, THREES, ONE, 1, table), is_bound_table(ANY, THREES, ONE, 0, table), is_bound_table(ANY, THREES, ONE, 1, {0: ((0, 1, 1),)})]
+[True, False, False]
+"""
+STAGE_9 = """
+>>> rings = Rings(AHEAD)
+>>> [rings.rings, rings.longest, rings.leads((0,), (1,)), rings.leads((1,), (0,)), list(Rings(PAIRS).loops(0, 4)), rings.reads((0,), "ab")]
+[((0,), (1,)), 2, True, False, ['ab', 'abab'], False]
+>>> [covers(THREES, (0, 1, 2), ANY, (0,)), covers(PAIRS, (0, 1), ANY, (0,)), lacking_piece(PAIRS, (0, 1), ANY, (0,))]
+[True, False, 'aa']
+"""
 
 
 class ExamplesTest(unittest.TestCase):
@@ -59,7 +87,7 @@ class ExamplesTest(unittest.TestCase):
         self.assertEqual((failed, tried), (0, text.count(">>> ")), "".join(report))
 
     def test_examples(self):
-        for text in (VALUES, STAGE_1, STAGE_2, STAGE_3, STAGE_4, STAGE_5):
+        for text in (VALUES, STAGE_1, STAGE_2, STAGE_3, STAGE_4, STAGE_5, STAGE_6, STAGE_7, STAGE_8, STAGE_9):
             self.check(text, globals())
 
     def test_readme(self):

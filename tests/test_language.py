@@ -96,6 +96,39 @@ class LanguageTest(unittest.TestCase):
                 with self.subTest(place):
                     self.assertFalse(any(isinstance(given, ast.GeneratorExp) for given in node.args), "L7")
 
+    def test_names_of_imports_and_classes_are_not_used_again(self):
+        for path in files():
+            tree = ast.parse(path.read_text())
+            barred = {node.name for node in tree.body if isinstance(node, ast.ClassDef)}
+            for node in tree.body:
+                if isinstance(node, ast.ImportFrom):
+                    barred |= {alias.name for alias in node.names}
+            for node in ast.walk(tree):
+                with self.subTest(f"{path}, {getattr(node, 'lineno', 0)}"):
+                    if isinstance(node, ast.Name) and not isinstance(node.ctx, ast.Load):
+                        self.assertNotIn(node.id, barred, "L15")
+                    if isinstance(node, ast.arg):
+                        self.assertNotIn(node.arg, barred, "L15")
+
+    def test_names_of_generators_and_properties_stand_alone(self):
+        functions = [node for _, node in nodes(ast.FunctionDef)]
+        generators = [node.name for node in functions if any(
+            isinstance(part, (ast.Yield, ast.YieldFrom)) for part in ast.walk(node))]
+        self.assertGreater(len(generators), 3)
+        for name in generators:
+            self.assertEqual([node.name for node in functions].count(name), 1, "L23")
+        properties = {node.name for node in functions if "property" in [
+            ast.unparse(decorator) for decorator in node.decorator_list]}
+        for node in functions:
+            if "property" not in [ast.unparse(decorator) for decorator in node.decorator_list]:
+                self.assertNotIn(node.name, properties, "L5")
+        for place, node in nodes(ast.Attribute):
+            if isinstance(node.ctx, ast.Store):
+                self.assertNotIn(node.attr, properties, f"L5: {place}")
+        for place, node in nodes(ast.Call):
+            if isinstance(node.func, ast.Attribute):
+                self.assertNotIn(node.func.attr, properties, f"L5: {place}")
+
 
 class OperatorsTest(unittest.TestCase):
     """L5: what operators, properties, `__eq__`, `__str__` and `__len__` run changes only what it makes itself."""
@@ -104,7 +137,7 @@ class OperatorsTest(unittest.TestCase):
         self.found = {}
         self.roots = []
         for path in files():
-            for node in ast.walk(ast.parse(path.read_text())):
+            for node in ast.parse(path.read_text()).body:
                 if isinstance(node, ast.ClassDef):
                     for method in node.body:
                         if isinstance(method, ast.FunctionDef):
@@ -116,10 +149,9 @@ class OperatorsTest(unittest.TestCase):
                     self.enter(node, node.name)
 
     def enter(self, node, name):
+        # A class is called by its name; methods are found by their names alone, in whatever class they stand.
         short = name.split(".")[-1]
-        if short == "__init__":
-            short = name.split(".")[0]
-        self.found.setdefault(short, []).append(node)
+        self.found.setdefault(name.split(".")[0] if short == "__init__" else short, []).append(node)
 
     def reached(self):
         queue, seen = list(self.roots), []
@@ -131,8 +163,7 @@ class OperatorsTest(unittest.TestCase):
             for call in ast.walk(node):
                 if isinstance(call, ast.Call):
                     name = call.func.id if isinstance(call.func, ast.Name) else call.func.attr
-                    if name in self.found:
-                        queue.extend(self.found[name])
+                    queue.extend(self.found.get(name, []))
         return seen
 
     def own(self, node):

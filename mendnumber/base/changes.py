@@ -14,7 +14,7 @@ def changed(word, changes):
     steps = steps_of(word, changes)
     if steps is None:
         raise InvalidChange("not a row of changes of this word")
-    return _word_behind(word, steps)
+    return word_behind(word, steps)
 
 
 def undone(word, changes):
@@ -56,7 +56,7 @@ def is_least_changes(one, other, prices, value):
     """Whether the value is a row of changes from a word to a word whose price is the cost."""
     _check_pair(one, other, prices)
     steps = steps_of(one, value)
-    if steps is None or _word_behind(one, steps) != other:
+    if steps is None or word_behind(one, steps) != other:
         return False
     return price_of_steps(steps, prices) == _cost_between(one, other, costs_by_ends(prices))
 
@@ -155,7 +155,7 @@ def _change(at, old, new):
     return ("swap", at, new)
 
 
-def _word_behind(word, steps):
+def word_behind(word, steps):
     """The word behind the steps of a row of changes."""
     signs = list(word)
     for at, old, new in steps:

@@ -25,9 +25,9 @@ def first_of_length(machine, counts, state, length):
     return word
 
 
-def next_of_length(machine, counts, word):
-    """The next word of the same length behind a word that the machine has, or None."""
-    passed = walked(machine, word)
+def next_of_length(machine, counts, start, word):
+    """The next word of the same length behind a word that leads from a state to a last one, or None."""
+    passed = walked(machine, word, start)
     for at in range(len(word) - 1, -1, -1):
         moves = machine[passed[at]][0]
         left = len(word) - at - 1

@@ -5,7 +5,7 @@ from mendnumber.base.words import SIGNS, check_signs, check_word, is_sign, is_wo
 from mendnumber.errors import InvalidForm, InvalidOperation, InvalidWord, TooMany
 from mendnumber.forms.counts import first_of_length, next_of_length, word_counts
 from mendnumber.forms.machines import (
-    copied, first_word, has_ring, is_machine_of_form, least_machine, paired, reads, walked,
+    copied, first_word, has_ring, has_word, is_machine_of_form, least_machine, paired, walked,
 )
 from mendnumber.forms.nets import mirrored, one_behind_other, repetition
 
@@ -75,7 +75,7 @@ class Form:
             word = first_of_length(self._states, counts, 0, length)
             while word is not None:
                 yield word
-                word = next_of_length(self._states, counts, word)
+                word = next_of_length(self._states, counts, 0, word)
 
     def count(self, many):
         """How many words of just so many signs the form has."""
@@ -172,7 +172,7 @@ class Form:
         raise InvalidOperation("the other operand is no form")
 
     def __contains__(self, value):
-        return is_word(value) and reads(self._states, value)
+        return is_word(value) and has_word(self._states, value)
 
     def __len__(self):
         return len(self._states)

@@ -83,7 +83,7 @@ def paired(one, other, kinds):
         near, far = pairs[len(machine)]
         moves = {}
         for sign in SIGNS:
-            pair = (_behind(one, near, sign), _behind(other, far, sign))
+            pair = (_state_at(one, near, sign), _state_at(other, far, sign))
             if pair != (None, None):
                 if pair not in numbers:
                     numbers[pair] = len(pairs)
@@ -93,18 +93,18 @@ def paired(one, other, kinds):
     return machine
 
 
-def walked(machine, word):
-    """The states behind the first 0, 1, .. signs of a word, as far as there are moves."""
-    states = [0]
+def walked(machine, word, start=0):
+    """The states from a state on behind the first 0, 1, .. signs of a word, as far as there are moves."""
+    states = [start]
     for sign in word:
-        to = _behind(machine, states[-1], sign)
+        to = _state_at(machine, states[-1], sign)
         if to is None:
             return tuple(states)
         states.append(to)
     return tuple(states)
 
 
-def reads(machine, word):
+def has_word(machine, word):
     """Whether a machine has a word."""
     states = walked(machine, word)
     return len(states) == len(word) + 1 and machine[states[-1]][1]
@@ -129,7 +129,7 @@ def _is_state(value, many):
     return all([is_sign(sign) and is_number_within(moves[sign], 0, many - 1) for sign in moves])
 
 
-def _behind(machine, state, sign):
+def _state_at(machine, state, sign):
     """The state behind a state and a sign, or None; None has no moves."""
     return None if state is None else machine[state][0].get(sign)
 

@@ -1,0 +1,1 @@
+"""Rows of targets, and what words cost."""

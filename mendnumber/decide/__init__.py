@@ -1,0 +1,1 @@
+"""What all words of a source cost."""
