@@ -10,28 +10,17 @@ MAX_COMPARED = 200
 
 def changed(word, changes):
     """The word behind a row of changes."""
-    check_word(word)
-    steps = steps_of(word, changes)
-    if steps is None:
-        raise InvalidChange("not a row of changes of this word")
-    return word_behind(word, steps)
+    return word_behind(word, _checked_steps(word, changes))
 
 
 def undone(word, changes):
     """The row of changes that leads back to the word, from the last change to the first one."""
-    check_word(word)
-    steps = steps_of(word, changes)
-    if steps is None:
-        raise InvalidChange("not a row of changes of this word")
-    return tuple([_change(at, new, old) for at, old, new in steps[::-1]])
+    return tuple([_change(at, new, old) for at, old, new in _checked_steps(word, changes)[::-1]])
 
 
 def price_of(word, changes, prices):
     """The price of a row of changes."""
-    check_word(word)
-    steps = steps_of(word, changes)
-    if steps is None:
-        raise InvalidChange("not a row of changes of this word")
+    steps = _checked_steps(word, changes)
     check_prices(prices)
     price = price_of_steps(steps, prices)
     if price is None:
@@ -120,6 +109,15 @@ def changes_between(ends, prices):
             changes.append(_change(at, old, new))
         at += len(end)
     return tuple(changes)
+
+
+def _checked_steps(word, changes):
+    """The steps of a row of changes, if the values are a word and such a row."""
+    check_word(word)
+    steps = steps_of(word, changes)
+    if steps is None:
+        raise InvalidChange("not a row of changes of this word")
+    return steps
 
 
 def _check_pair(one, other, prices):
