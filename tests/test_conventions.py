@@ -3,11 +3,20 @@ import inspect
 import unittest
 
 from mendnumber.base import prices, words
+from mendnumber.base.changes import is_alignment, is_least_changes
 from mendnumber.base.integers import is_number
 from mendnumber.base.prices import Prices
 from mendnumber.base.words import is_sign, is_word, ordered, words_upto
+from mendnumber.core.costs import is_mending
+from mendnumber.core.rows import is_row
+from mendnumber.decide.tables import is_bound_table
 from mendnumber.errors import InvalidChange, InvalidNumber, InvalidOperation, InvalidPrices, InvalidWord
-from values import HUNDRED_DIGITS, ONE, SIXTY_DIGITS, SIXTY_ONE_DIGITS, SLOW, odd_values, some_prices
+from mendnumber.forms.form import Form, is_least
+from mendnumber.forms.patterns import is_pattern
+from mendnumber.rings.rings import Rings
+from values import (
+    AHEAD, ANY, HUNDRED_DIGITS, ONE, PAIRS, SIXTY_DIGITS, SIXTY_ONE_DIGITS, SLOW, THREES, odd_values, some_prices,
+)
 
 
 def parameters(function):
@@ -116,6 +125,28 @@ class NothingIsSharedTest(unittest.TestCase):
                     use(value)
                 except (ValueError, IndexError):
                     pass
+            self.assertEqual(value, before)
+
+    def test_dicts_that_are_passed_stay_as_they_are(self):
+        names, moves = {"b": "a", "a": "c"}, {"b": 0, "a": 1}
+        states = ((moves, False), ({"b": 1}, True))
+        table = {0: ((0, 1, 2), (1, 0, 1), (1, 1, 0))}
+        PAIRS.renamed(names), Form(states), is_bound_table(ANY, THREES, ONE, 1, table)
+        self.assertEqual(list(names.items()), [("b", "a"), ("a", "c")])
+        self.assertEqual((list(moves.items()), states[1]), ([("b", 0), ("a", 1)], ({"b": 1}, True)))
+        self.assertEqual(table, {0: ((0, 1, 2), (1, 0, 1), (1, 1, 0))})
+
+    def test_every_value_can_be_judged_and_stays_as_it_is(self):
+        judges = (
+            is_pattern, is_least, lambda value: is_row(THREES, value), lambda value: is_mending("a", THREES, ONE, value),
+            lambda value: is_bound_table(ANY, THREES, ONE, 1, value), lambda value: is_alignment("a", "ab", ONE, value),
+            lambda value: is_least_changes("a", "ab", ONE, value), lambda value: value in PAIRS,
+            lambda value: value in Rings(AHEAD), lambda value: value in ONE,
+        )
+        for value in odd_values():
+            before = copy.deepcopy(value)
+            for judge in judges:
+                self.assertIs(type(judge(value)), bool)
             self.assertEqual(value, before)
 
     def test_prices_never_change(self):
