@@ -2,16 +2,20 @@ import doctest
 import pathlib
 import unittest
 
-from mendnumber.base.changes import alignment, changed, distance, least_changes, undone
+from mendnumber.base.changes import alignment, changed, distance, least_changes, price_of, undone
 from mendnumber.base.prices import Prices
 from mendnumber.base.words import ordered, words_upto
 from mendnumber.core.costs import cost, costs_by, is_mending, mending, nearest_words
 from mendnumber.core.rows import end_cost, row_behind, row_of, start_row
+from mendnumber.decide.greatest import cost_limit, dearest_word, greatest_cost, is_close, is_mend_paper, mend_paper, spread
 from mendnumber.decide.tables import costs_at_most, first_above, is_bound_table, level_form
 from mendnumber.forms.form import Form, is_least
 from mendnumber.forms.joins import first_apart
 from mendnumber.forms.patterns import read_pattern, turned_pattern
+from mendnumber.game.hurried import hurried_number, is_hurriable, ring_paper
+from mendnumber.rings.chains import chain_paper, family_word, is_bounded, is_growing_family
 from mendnumber.rings.rings import Rings, covers, lacking_piece
+from mendnumber.use.menders import Mender, Rereader
 from values import AHEAD, ANY, ONE, PAIRS, SLOW, THREES
 
 VALUES = """
@@ -77,6 +81,37 @@ STAGE_9 = """
 >>> [covers(THREES, (0, 1, 2), ANY, (0,)), covers(PAIRS, (0, 1), ANY, (0,)), lacking_piece(PAIRS, (0, 1), ANY, (0,))]
 [True, False, 'aa']
 """
+STAGE_10 = """
+>>> [is_bounded(ANY, THREES), is_bounded(ANY, PAIRS), is_bounded(AHEAD, PAIRS), is_bounded(ANY, AHEAD), is_bounded(AHEAD, ANY)]
+[True, False, False, True, False]
+>>> [chain_paper(ANY, THREES), is_growing_family(ANY, PAIRS, ("", "aa", "")), is_growing_family(ANY, PAIRS, ("", "a", "")), family_word(("b", "aa", "", "b", "a"), 2)]
+[{(0,): (((0, 1, 2),),)}, True, False, 'baaaabba']
+"""
+STAGE_11 = """
+>>> [greatest_cost(ANY, THREES, ONE), dearest_word(ANY, THREES, ONE), greatest_cost(ANY, PAIRS, ONE), greatest_cost(PAIRS, PAIRS, ONE), cost_limit(ANY, THREES, ONE)]
+[1, 'a', None, 0, 4]
+>>> TABLE = {0: ((0, 1, 2), (1, 0, 1), (1, 1, 0))}
+>>> [mend_paper(ANY, PAIRS, ONE)[0], is_mend_paper(ANY, THREES, ONE, ("bounded", 1, "aa", TABLE)), is_mend_paper(ANY, PAIRS, ONE, ("grows", ("", "aa", "")))]
+['grows', True, True]
+>>> [list(spread(ANY, THREES, ONE)), spread(ANY, THREES, ONE)[0] == THREES, is_close(AHEAD, ANY)]
+[[0, 1], True, False]
+"""
+STAGE_12 = """
+>>> FORK = Form((({"a": 0, "b": 1, "c": 2}, True), ({"b": 1}, True), ({"c": 2}, True)))
+>>> LATE = read_pattern("da*b*|ea*c*")
+>>> FIVE = Prices.even(("a", "b", "c", "d", "e"))
+>>> [greatest_cost(FORK, LATE, FIVE), is_bounded(FORK, LATE), is_hurriable(FORK, LATE), hurried_number(FORK, LATE, FIVE, ahead=2)]
+[1, True, False, None]
+>>> [hurried_number(ANY, THREES, ONE), hurried_number(ANY, THREES, ONE, ahead=2), ring_paper(ANY, THREES)]
+[2, 1, (((0,), (0, 1, 2)),)]
+"""
+STAGE_13 = """
+>>> mender = Mender(ANY, THREES, ONE, ahead=2)
+>>> [mender.feed("aa"), mender.feed("aa"), mender.waiting, mender.end(), mender.paid, len(mender.result), str(mender)]
+['', 'aa', 'aa', 'a', 1, 3, 'mender: 4 signs, paid 1 of 1']
+>>> [Rereader(ANY, THREES, ONE)("aaaa"), price_of("aaaa", Rereader(ANY, THREES, ONE).mending("aaaa"), ONE), mender("aaaa")]
+['aaa', 1, 'aaa']
+"""
 
 
 class ExamplesTest(unittest.TestCase):
@@ -87,7 +122,8 @@ class ExamplesTest(unittest.TestCase):
         self.assertEqual((failed, tried), (0, text.count(">>> ")), "".join(report))
 
     def test_examples(self):
-        for text in (VALUES, STAGE_1, STAGE_2, STAGE_3, STAGE_4, STAGE_5, STAGE_6, STAGE_7, STAGE_8, STAGE_9):
+        for text in (VALUES, STAGE_1, STAGE_2, STAGE_3, STAGE_4, STAGE_5, STAGE_6, STAGE_7, STAGE_8, STAGE_9, STAGE_10,
+                     STAGE_11, STAGE_12, STAGE_13):
             self.check(text, globals())
 
     def test_readme(self):

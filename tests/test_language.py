@@ -143,7 +143,8 @@ class OperatorsTest(unittest.TestCase):
                         if isinstance(method, ast.FunctionDef):
                             self.enter(method, f"{node.name}.{method.name}")
                             told = [ast.unparse(decorator) for decorator in method.decorator_list]
-                            if method.name.startswith("__") and method.name != "__init__" or "property" in told:
+                            is_operator = method.name.startswith("__") and method.name not in ("__init__", "__call__")
+                            if is_operator or "property" in told:
                                 self.roots.append(method)
                 elif isinstance(node, ast.FunctionDef):
                     self.enter(node, node.name)

@@ -1,6 +1,7 @@
 """What single changes cost."""
 
 from mendnumber.base.integers import LARGEST, check_number, is_number_within
+from mendnumber.base.orders import ascending_dict
 from mendnumber.base.words import check_signs, is_sign
 from mendnumber.errors import InvalidChange, InvalidNumber, InvalidOperation, InvalidPrices
 
@@ -15,9 +16,9 @@ class Prices:
         if not _are_tables(put, out, swap):
             raise InvalidPrices("not the put, out and swap prices of one to five signs")
         self._signs = tuple(sorted(put))
-        self._put = _ascending(put)
-        self._out = _ascending(out)
-        self._swap = _ascending(swap)
+        self._put = ascending_dict(put)
+        self._out = ascending_dict(out)
+        self._swap = ascending_dict(swap)
 
     @classmethod
     def even(cls, signs, price=1):
@@ -35,17 +36,17 @@ class Prices:
     @property
     def put(self):
         """The put prices."""
-        return _ascending(self._put)
+        return ascending_dict(self._put)
 
     @property
     def out(self):
         """The out prices."""
-        return _ascending(self._out)
+        return ascending_dict(self._out)
 
     @property
     def swap(self):
         """The swap prices."""
-        return _ascending(self._swap)
+        return ascending_dict(self._swap)
 
     @property
     def smallest(self):
@@ -193,11 +194,6 @@ def _is_price(kind, value):
     if kind == "swap":
         return value is None or is_number_within(value, 1, MAX_SWAP_PRICE)
     return is_number_within(value, 1, MAX_PRICE)
-
-
-def _ascending(table):
-    """A copy of a dict, with ascending keys."""
-    return {key: table[key] for key in sorted(table)}
 
 
 def _multiplied(table, many):

@@ -18,7 +18,7 @@ MAX_LISTED = 5
 def cost(word, target, prices):
     """The cost of a word to the target."""
     _check_word_to(word, target, prices)
-    return _cost(word, Reader(target, prices))
+    return Reader(target, prices).word_cost(word)
 
 
 def nearest_words(word, target, prices):
@@ -49,7 +49,7 @@ def is_mending(word, target, prices, value):
     steps = steps_of(word, value)
     if steps is None or word_behind(word, steps) not in target:
         return False
-    return price_of_steps(steps, prices) == _cost(word, Reader(target, prices))
+    return price_of_steps(steps, prices) == Reader(target, prices).word_cost(word)
 
 
 def costs_by(source, target, prices, *, many):
@@ -60,7 +60,7 @@ def costs_by(source, target, prices, *, many):
     check_number(many, 0, MAX_LISTED)
     check_treated((source, target), prices, "")
     reader = Reader(target, prices)
-    return {word: _cost(word, reader) for word in source.words(many)}
+    return {word: reader.word_cost(word) for word in source.words(many)}
 
 
 def _check_word_to(word, target, prices):
@@ -77,11 +77,3 @@ def _nearest(word, target, prices):
     if len(word) > MAX_NEAREST:
         raise TooMany(MAX_NEAREST)
     return Nearest(Places(word, target, prices))
-
-
-def _cost(word, reader):
-    """The cost of a word to the target of a reader."""
-    row = reader.start
-    for sign in word:
-        row = reader.behind(row, sign)
-    return reader.end_cost(row)

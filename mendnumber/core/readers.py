@@ -9,7 +9,7 @@ class Reader:
     def __init__(self, target, prices):
         states = target.states
         costs = costs_by_ends(prices)
-        gaps = _put_costs(states, costs)
+        gaps = put_costs(states, costs)
         self.start = tuple([gaps[0, to] for to in range(len(states))])
         self.last_states = tuple([at for at, (_, last) in enumerate(states) if last])
         self.ways = {sign: _ways(states, sign, costs, gaps) for sign in prices.signs}
@@ -25,6 +25,13 @@ class Reader:
     def end_cost(self, row):
         """The least number of a row at last states."""
         return min([row[at] for at in self.last_states])
+
+    def word_cost(self, word):
+        """The cost of a word to the target."""
+        row = self.start
+        for sign in word:
+            row = self.behind(row, sign)
+        return self.end_cost(row)
 
     def rows_along(self, word):
         """The rows of the first 0, 1, .. signs of a word."""
@@ -47,7 +54,7 @@ def is_above(one, other):
     return True
 
 
-def _put_costs(states, costs):
+def put_costs(states, costs):
     """The least costs of words that lead from a state to a state, by pairs of states between which words lead."""
     found = {(at, at): 0 for at in range(len(states))}
     for at, (moves, _) in enumerate(states):

@@ -23,10 +23,10 @@ def copied(machine):
     return tuple([({sign: moves[sign] for sign in sorted(moves)}, last) for moves, last in machine])
 
 
-def first_words(machine):
-    """The first words that lead to states, by states; both are in the order of these words."""
-    found = {0: ""}
-    queue = [0]
+def first_words(machine, start=0):
+    """The first words that lead from a state to states, by states; both are in the order of these words."""
+    found = {start: ""}
+    queue = [start]
     at = 0
     while at < len(queue):
         state = queue[at]
@@ -40,9 +40,9 @@ def first_words(machine):
     return found
 
 
-def first_word(machine):
-    """The first word that a machine has, or None if it has none."""
-    found = first_words(machine)
+def first_word(machine, start=0):
+    """The first word that leads from a state to a last one, or None if there is none."""
+    found = first_words(machine, start)
     for state in found:
         if machine[state][1]:
             return found[state]

@@ -93,7 +93,7 @@ class Rings:
         return iter(self._rings)
 
     def __contains__(self, value):
-        return _is_one_of(value, self._rings)
+        return is_one_of(value, self._rings)
 
     def __eq__(self, other):
         return isinstance(other, Rings) and self._form == other._form
@@ -153,12 +153,12 @@ def _has_move_inside(states, part):
     return any([to in part for state in part for to in states[state][0].values()])
 
 
-def _is_one_of(value, parts):
-    """Whether the value is one of these parts."""
+def is_one_of(value, parts):
+    """Whether the value is one of these parts, which are a tuple or the keys of a dict."""
     return isinstance(value, tuple) and all([is_number(state) for state in value]) and value in parts
 
 
 def _check_part(value, parts):
     """Refuse a value that is not one of these parts."""
-    if not _is_one_of(value, parts):
+    if not is_one_of(value, parts):
         raise InvalidOperation("not a part or ring of this form")

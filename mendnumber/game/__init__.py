@@ -1,0 +1,1 @@
+"""Changes of words while they are read."""

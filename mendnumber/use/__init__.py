@@ -1,0 +1,1 @@
+"""What programs do with costs: menders, and what can be left out."""
