@@ -30,10 +30,10 @@ class InvalidOperation(MendError):
 
 
 class ParseError(MendError):
-    """A text that is no pattern; `at` is the index where this shows."""
+    """A text that cannot be read; `at` is the index where this shows, or None."""
 
     def __init__(self, at):
-        super().__init__("the text is no pattern")
+        super().__init__("the text cannot be read")
         self.at = at
 
 

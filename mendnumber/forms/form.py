@@ -195,9 +195,22 @@ def check_form(form):
         raise InvalidForm("this is no form")
 
 
+def form_of_machine(machine):
+    """The form with these states, which the package has made, or None if they are those of none."""
+    return Form(Built(copied(machine))) if is_machine_of_form(machine, MAX_STATES) else None
+
+
 def least_form(machine):
     """The least form that has the words of a machine."""
     return Form(Built(least_machine(machine, MAX_STATES)))
+
+
+def form_without(form, moves):
+    """The least form of the words of a form that use none of these moves, pairs of a state and a sign, or None."""
+    machine = []
+    for state, (ways, last) in enumerate(form.states):
+        machine.append(({sign: ways[sign] for sign in ways if (state, sign) not in moves}, last))
+    return least_form(machine) if first_word(machine) is not None else None
 
 
 def _machine_of_words(words):
@@ -224,10 +237,10 @@ def _machine_of_words(words):
 
 def _with_state(machine, at, state):
     """The form with another state at an index."""
-    states = copied(machine[:at] + (state,) + machine[at + 1:])
-    if not is_machine_of_form(states, MAX_STATES):
+    form = form_of_machine(machine[:at] + (state,) + machine[at + 1:])
+    if form is None:
         raise InvalidForm("these are no states of a form")
-    return Form(Built(states))
+    return form
 
 
 def _is_renaming(value, signs):

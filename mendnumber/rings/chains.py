@@ -6,7 +6,7 @@ from mendnumber.core.tasks import check_sizes
 from mendnumber.errors import InvalidOperation
 from mendnumber.forms.form import check_form
 from mendnumber.rings.coverage import Coverage
-from mendnumber.rings.families import family_along, grows, is_family
+from mendnumber.rings.families import copied_word, family_along, grows, is_family
 from mendnumber.rings.rings import is_one_of
 
 MAX_COPIES = 1000
@@ -65,7 +65,7 @@ def family_word(family, many):
     if not is_family(family):
         raise InvalidOperation("not the words of a family")
     check_number(many, 0, MAX_COPIES)
-    return "".join([word * many if at & 1 == 1 else word for at, word in enumerate(family)])
+    return copied_word(family, many)
 
 
 def uncovered_chain(source, target):

@@ -13,6 +13,11 @@ def is_family(value):
     return all([is_word(word) for word in value]) and "" not in value[1::2]
 
 
+def copied_word(family, many):
+    """The word of a family with so many copies."""
+    return "".join([word * many if at & 1 == 1 else word for at, word in enumerate(family)])
+
+
 def grows(source, target, family):
     """Whether the words of a family are words of the source's machine and cannot all be near words of the target's."""
     return _loops_in(source, family) and _gets_stuck_in(target, family)

@@ -1,0 +1,1 @@
+"""Desks: prices, forms with names, and pins."""
