@@ -9,13 +9,19 @@ from mendnumber.core.costs import cost, costs_by, is_mending, mending, nearest_w
 from mendnumber.core.rows import end_cost, row_behind, row_of, start_row
 from mendnumber.decide.greatest import cost_limit, dearest_word, greatest_cost, is_close, is_mend_paper, mend_paper, spread
 from mendnumber.decide.tables import costs_at_most, first_above, is_bound_table, level_form
+from mendnumber.desk.desk import Desk
 from mendnumber.forms.form import Form, is_least
 from mendnumber.forms.joins import first_apart
 from mendnumber.forms.patterns import read_pattern, turned_pattern
 from mendnumber.game.hurried import hurried_number, is_hurriable, ring_paper
 from mendnumber.rings.chains import chain_paper, family_word, is_bounded, is_growing_family
 from mendnumber.rings.rings import Rings, covers, lacking_piece
+from mendnumber.text.shell import Shell
+from mendnumber.text.texts import read_form, write_changes, write_form, write_paper, write_prices
 from mendnumber.use.menders import Mender, Rereader
+from mendnumber.use.parts import (
+    best_target, cheapest_guard, close_classes, spare_moves, spare_swaps, without_moves,
+)
 from values import AHEAD, ANY, ONE, PAIRS, SLOW, THREES
 
 VALUES = """
@@ -112,6 +118,30 @@ STAGE_13 = """
 >>> [Rereader(ANY, THREES, ONE)("aaaa"), price_of("aaaa", Rereader(ANY, THREES, ONE).mending("aaaa"), ONE), mender("aaaa")]
 ['aaa', 1, 'aaa']
 """
+STAGE_14 = """
+>>> [without_moves(AHEAD, ((0, "b"),)) == ANY, spare_moves(ANY, ANY | PAIRS, ONE), spare_swaps(read_pattern("b"), read_pattern("a"), ONE)]
+[True, ((1, 'b'), (3, 'a'), (4, 'b')), (('a', 'b'),)]
+>>> [cheapest_guard(AHEAD, PAIRS, ONE, {(0, "a"): 2, (1, "b"): 3}), cheapest_guard(AHEAD, PAIRS, ONE, {(1, "b"): 3})]
+[((0, 'a'), (1, 'b')), None]
+>>> [close_classes((ANY, PAIRS, THREES)), best_target(THREES, (PAIRS, THREES, ANY), ONE)]
+[((0, 2), (1,)), 1]
+"""
+STAGE_15 = """
+>>> desk = Desk(ONE)
+>>> [desk.enter("any", ANY), desk.enter("threes", THREES), desk.pin(("within", "any", "threes", 2)), desk.costs("aa"), str(desk)]
+[(), (('any', 'threes', 'none', 1), ('threes', 'any', 'none', 0)), (), {'any': 0, 'threes': 1}, 'desk of 2 forms, 1 pins']
+>>> [desk.reprice(ONE.times(2)), desk.undo(), desk.trial(("enter", "pairs", PAIRS))[0][0], len(desk), desk.greatest("any", "threes")]
+[(('any', 'threes', 1, 2),), (('any', 'threes', 2, 1),), ('any', 'pairs', 'none', None), 2, 1]
+"""
+STAGE_16 = """
+>>> [write_form(AHEAD), read_form("a1 *; b0") == PAIRS, write_changes((("put", 0, "a"), ("out", 1))), write_prices(SLOW)]
+['a0 b1 *; b1 *', True, 'put 0 a, out 1', 'put a9 b1; out a2 b9; swap ba1']
+>>> shell = Shell(ONE)
+>>> [shell("put any a*"), shell("put pairs (ab)*"), shell("number any pairs"), shell("cost pairs aa"), shell("show pairs"), shell("word any pairs")]
+['none', 'any pairs none grows, pairs any none grows', 'grows', '1', 'a1 *; b0', 'no']
+>>> [write_paper(("grows", ("", "aa", ""))), shell("pin bounded any pairs"), shell("put any"), shell("undo 9"), len(shell)]
+['grows\\n-\\naa\\n-', 'refused bounded any pairs', 'what', 'nothing 9', 5]
+"""
 
 
 class ExamplesTest(unittest.TestCase):
@@ -123,7 +153,7 @@ class ExamplesTest(unittest.TestCase):
 
     def test_examples(self):
         for text in (VALUES, STAGE_1, STAGE_2, STAGE_3, STAGE_4, STAGE_5, STAGE_6, STAGE_7, STAGE_8, STAGE_9, STAGE_10,
-                     STAGE_11, STAGE_12, STAGE_13):
+                     STAGE_11, STAGE_12, STAGE_13, STAGE_14, STAGE_15, STAGE_16):
             self.check(text, globals())
 
     def test_readme(self):
