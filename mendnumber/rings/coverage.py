@@ -12,7 +12,7 @@ class Coverage:
         self.over = rings_behind(target)
         self.coverers = {}
         machine = source.states
-        inner = {ring: steps_inside(target.states, (ring,)) for ring in self.over}
+        inner = {other: steps_inside(target.states, (other,)) for other in self.over}
         for ring in self.under:
             self.coverers[ring] = tuple([
                 other for other in self.over if unread_word(machine, ring, inner[other], group_of(other)) is None
@@ -31,17 +31,17 @@ def unread_word(machine, ring, steps, group):
     None if there is none. Each piece of the ring is the end of a word that the first state reads.
     """
     places = [(ring[0], group)]
-    words = {(ring[0], group): ""}
+    read = {(ring[0], group): ""}
     at = 0
     while at < len(places):
         state, left = places[at]
         if left == 0:
-            return words[state, left]
+            return read[state, left]
         moves = machine[state][0]
         for sign in sorted(moves):
             place = (moves[sign], group_behind(steps, left, sign))
-            if place[0] in ring and place not in words:
-                words[place] = words[state, left] + sign
+            if place[0] in ring and place not in read:
+                read[place] = read[state, left] + sign
                 places.append(place)
         at += 1
     return None

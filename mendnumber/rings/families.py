@@ -25,13 +25,13 @@ def grows(source, target, family):
 
 def family_along(source, target, chain, coverage):
     """A growing family that goes along a row of rings of the source, which rings of the target cannot cover."""
-    loops = [_telling_loop(source, target, ring, coverage) for ring in chain]
+    turns = [_telling_loop(source, target, ring, coverage) for ring in chain]
     ways = _ways_along(source, chain)
     many = 1
     # A loop with more copies than the target has parts in a row is somewhere read inside one ring.
-    while not grows(source, target, _family(ways, loops, many)):
+    while not grows(source, target, _family(ways, turns, many)):
         many += 1
-    return _family(ways, loops, many)
+    return _family(ways, turns, many)
 
 
 def _loops_in(machine, family):
@@ -77,10 +77,10 @@ def _ways_along(machine, chain):
     return ways + [first_word(machine, state)]
 
 
-def _family(ways, loops, many):
+def _family(ways, turns, many):
     """The family of these words, with so many copies of each loop."""
     family = [ways[0]]
-    for loop, way in zip(loops, ways[1:]):
+    for loop, way in zip(turns, ways[1:]):
         family.append(loop * many)
         family.append(way)
     return tuple(family)

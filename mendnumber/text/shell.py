@@ -58,24 +58,24 @@ class Shell:
 
 
 def _order_in(command):
-    """The words of a command, and a list of what stands behind them; None if it is no command."""
+    """The verb of a command, and a list of what stands behind it; None if it is no command."""
     if not isinstance(command, str):
         return None
     parts = command.split(" ")
     many = 2 if parts[0] in ("pin", "unpin") else 1
-    words = " ".join(parts[:many])
+    verb = " ".join(parts[:many])
     given = parts[many:]
-    if words in ("undo", "redo") and not given:
+    if verb in ("undo", "redo") and not given:
         given = ["1"]
-    if words not in KINDS:
+    if verb not in KINDS:
         return None
-    kinds = KINDS[words]
+    kinds = KINDS[verb]
     if kinds and kinds[-1] in ("form", "prices"):
         given = given[:len(kinds) - 1] + [" ".join(given[len(kinds) - 1:])]
     if len(given) != len(kinds):
         return None
     values = [_value_in(kind, text) for kind, text in zip(kinds, given)]
-    return None if None in values else (words, values)
+    return None if None in values else (verb, values)
 
 
 def _value_in(kind, text):
@@ -95,41 +95,41 @@ def _value_in(kind, text):
         return None
 
 
-def _answer(desk, words, values):
+def _answer(desk, verb, values):
     """The answer to a command without an error."""
-    if words == "put":
+    if verb == "put":
         return _news_text(desk.enter(values[0], read_pattern(values[1])))
-    if words == "form":
+    if verb == "form":
         return _news_text(desk.enter(values[0], values[1]))
-    if words == "remove":
+    if verb == "remove":
         return _news_text(desk.remove(values[0]))
-    if words == "prices":
+    if verb == "prices":
         return _news_text(desk.reprice(values[0]))
-    if words == "undo":
+    if verb == "undo":
         return _news_text(desk.undo(many=values[0]))
-    if words == "redo":
+    if verb == "redo":
         return _news_text(desk.redo(many=values[0]))
-    if words.startswith("pin "):
-        return _news_text(desk.pin((words[len("pin "):], *values)))
-    if words.startswith("unpin "):
-        return _news_text(desk.unpin((words[len("unpin "):], *values)))
-    return _told(desk, words, values)
+    if verb.startswith("pin "):
+        return _news_text(desk.pin((verb[len("pin "):], *values)))
+    if verb.startswith("unpin "):
+        return _news_text(desk.unpin((verb[len("unpin "):], *values)))
+    return _told(desk, verb, values)
 
 
-def _told(desk, words, values):
+def _told(desk, verb, values):
     """The answer to a command that changes nothing."""
-    if words == "names":
+    if verb == "names":
         return " ".join(list(desk)) or "none"
-    if words == "number":
+    if verb == "number":
         return _number_text(desk.greatest(values[0], values[1]))
-    if words == "paper":
+    if verb == "paper":
         return write_paper(desk.paper(values[0], values[1]))
     form = desk[values[0]]
-    if words == "show":
+    if verb == "show":
         return write_form(form)
-    if words == "cost":
+    if verb == "cost":
         return str(cost(values[1], form, desk.prices))
-    if words == "mend":
+    if verb == "mend":
         return write_changes(mending(values[1], form, desk.prices))
     # What is left is the word of the greatest cost.
     if desk.greatest(values[0], values[1]) is None:

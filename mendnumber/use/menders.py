@@ -141,7 +141,8 @@ class Mender:
     def _treat(self, many):
         """Treat the signs that are not treated yet, up to so many of those that came."""
         states = self._plan.states_along(self._came)
-        for at in range(len(self._deeds), many):
+        treated = len(self._deeds)
+        for at in range(treated, many):
             window = self._came[at:at + self._plan.ahead + 1]
             self._deeds.append(self._plan.next_deed((states[at], window), self._deeds))
 
@@ -274,7 +275,7 @@ def _last_states(unfolded, reader):
 def _ways_back(unfolded, peak, replacements):
     """A dict from triples of a number, a sign and the state behind it to the state ahead of it, and a word."""
     ways = {}
-    words = {}
+    parts = {}
     for number, (_, row) in enumerate(unfolded.places):
         moves = unfolded.moves[number]
         for sign in moves:
@@ -283,7 +284,7 @@ def _ways_back(unfolded, peak, replacements):
                 # Greater numbers are cut, and no way of least cost goes through them.
                 if behind[to] <= peak.height:
                     near = min([at for at, price in peak.reader.ways[sign][to] if row[at] + price == behind[to]])
-                    if (sign, near, to) not in words:
-                        words[sign, near, to] = "".join(replacements.with_put_behind(sign, near, to))
-                    ways[number, sign, to] = (near, words[sign, near, to])
+                    if (sign, near, to) not in parts:
+                        parts[sign, near, to] = "".join(replacements.with_put_behind(sign, near, to))
+                    ways[number, sign, to] = (near, parts[sign, near, to])
     return ways

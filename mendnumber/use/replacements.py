@@ -11,20 +11,20 @@ class Replacements:
     def __init__(self, target, prices):
         self._goals = target.states
         self._costs = costs_by_ends(prices)
-        self._puts = [_cheapest_words(self._goals, self._costs, near) for near in range(len(self._goals))]
+        self._cheapest = [_cheapest_words(self._goals, self._costs, near) for near in range(len(self._goals))]
 
     def put_between(self, near, to):
         """A word of least put prices that leads from a state to a state."""
-        return self._puts[near][to][1]
+        return self._cheapest[near][to][1]
 
     def put_to_end(self, near):
         """A word of least put prices that leads from a state to a last one."""
-        found = self._puts[near]
+        found = self._cheapest[near]
         return min([found[to] for to in found if self._goals[to][1]])[1]
 
     def with_put_ahead(self, sign, near, to):
         """The word that is put in ahead of a sign, and what becomes of the sign, on the cheapest way to a state."""
-        puts = self._puts[near]
+        puts = self._cheapest[near]
         return min([
             (puts[via][0] + price, puts[via][1], new)
             for via in puts for price, new, behind in self._steps(sign, via) if behind == to
@@ -33,8 +33,8 @@ class Replacements:
     def with_put_behind(self, sign, near, to):
         """What becomes of a sign, and the word that is put in behind it, on the cheapest way to a state."""
         return min([
-            (price + self._puts[via][to][0], new, self._puts[via][to][1])
-            for price, new, via in self._steps(sign, near) if to in self._puts[via]
+            (price + self._cheapest[via][to][0], new, self._cheapest[via][to][1])
+            for price, new, via in self._steps(sign, near) if to in self._cheapest[via]
         ])[1:]
 
     def _steps(self, sign, near):
