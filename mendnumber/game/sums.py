@@ -20,9 +20,11 @@ class Sums:
         ahead = seats_ahead(self._following)
         queue = list(self._following)
         waiting = {seat: True for seat in queue}
-        while queue:
-            seat = queue.pop()
+        at = 0
+        while at < len(queue):
+            seat = queue[at]
             waiting[seat] = False
+            at += 1
             sums = sums_ahead(arena, seat, self._sums_behind(seat), ENDLESS)
             if sums != self._sums[seat]:
                 self._sums[seat] = sums
