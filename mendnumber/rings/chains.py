@@ -117,7 +117,8 @@ def _chains(coverage):
     at = 0
     while at < len(queue):
         ring, group = queue[at]
-        for other in coverage.under[ring]:
+        # The same ring again leaves all rings of the group, so it can be passed over.
+        for other in [near for near in coverage.under[ring] if near != ring]:
             behind = [to for to in coverage.coverers[other] if _lead_to(group, to, coverage.over)]
             place = (other, tuple(behind))
             if place not in chains:
