@@ -360,7 +360,7 @@ class LimitsTest(unittest.TestCase):
         desk = Desk(ONE)
         desk.enter("a", ANY), desk.enter("b", THREES), desk.pin(("within", "a", "b", 1))
         wrong = odd_values() + [
-            ("within", "a", "b"), ("within", "a", "b", 501), ("within", "a", "b", -1), ("within", "a", "b", True), ("within", "a", "b", "1"),
+            ("within", "a", "b"), ("within", "a", "b", 501), ("without", "a", "b", 1), ("within", "a", "b", -1), ("within", "a", "b", True), ("within", "a", "b", "1"),
             ("within", "a", "a", 1), ("within", "a", "c", 1), ("within", "b", "a", 1, 1), ("bounded", "a", "a"), ("bounded", "c", "a"),
             ("bounded", "a", "b", 1), ["bounded", "a", "b"], ("bounded", ["a"], "b"), ("has", "a", "f"), ("has", "c", "a"), ("has", "a"),
             ("has", "a", ("a",)), ("has", "a", None), ("hat", "a", "a"), ("within", "a", "b", None), ("has", 1, "a"), ("within", "a", "b", 10 ** 60),

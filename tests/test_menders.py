@@ -47,7 +47,7 @@ class MenderTest(unittest.TestCase):
         self.assertEqual(len(mender), len(mender.came))
         self.assertEqual(str(mender), f"mender: {len(mender)} signs, paid {mender.paid} of {mender.promised}")
         if mender.has_ended:
-            self.assertEqual((mender.waiting, mender.most), ("", mender.most))
+            self.assertEqual(mender.waiting, "")
             self.assertIn(mender.result, target)
         else:
             self.assertEqual(len(mender.waiting), min(ahead, len(mender.came)))

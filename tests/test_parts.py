@@ -222,7 +222,21 @@ class GuardTest(unittest.TestCase):
         self.assertIs(is_guard_paper(AHEAD, PAIRS, ONE, tolls, (guard, {**reasons, (): "a" * 5000}), 3), True)
         self.assertIs(is_guard_paper(AHEAD, PAIRS, ONE, tolls, (guard, {**reasons, (): "a" * 5}), 3), False)
         self.assertIs(is_guard_paper(AHEAD, PAIRS, ONE, tolls, (guard, {**reasons, (): "ba" * 20}), 3), False)
+        # A guard that is not enough cannot be told, with the reasons for those of lower rank.
+        guards = ranked(tolls)
+        for at, other in enumerate(guards[:-1]):
+            value = (other, {ahead: reasons[ahead] for ahead in guards[:at]})
+            self.assertIs(is_guard_paper(AHEAD, PAIRS, ONE, tolls, value, 3), False)
         self.assertIs(is_guard_paper(AHEAD, PAIRS, ONE, tolls, (((False, "a"), (1, "b")), reasons), 3), False)
+        for most, reason in ((None, ("", "aa", "")), (1, "aa")):
+            # A guard without which no word is left is enough, whatever is told.
+            source, toll = (ANY.with_last(0, True) & Form.of_words(("aa",)), {(0, "a"): 1}) if most else (Form((
+                ({"a": 1}, False), ({"b": 1}, True))), {(0, "a"): 1})
+            reason = reason if most else ("a", "b", "")
+            paper = guard_paper(source, EMPTY, ONE, toll, most)
+            self.assertEqual(paper[0], ((0, "a"),))
+            self.assertIs(is_guard_paper(source, EMPTY, ONE, toll, paper, most), True)
+            self.assertIs(is_guard_paper(source, EMPTY, ONE, toll, (None, {**paper[1], ((0, "a"),): reason}), most), False)
         self.assertTrue(all(len(word) <= 4000 for word in guard_paper(AHEAD, SIX, ONE, tolls, 60)[1].values()))
 
     def test_errors(self):

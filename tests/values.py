@@ -83,7 +83,7 @@ def near_dicts(value):
         rest = {other: value[other] for other in value if other != key}
         found.append(rest)
         found.extend({**rest, key: other} for other in near(one))
-        found.extend({**rest, other: one} for other in near(key) if hashable(other) and other not in value)
+        found.extend({**rest, other: one} for other in near(key) if hashable(other) and other not in rest)
         found.extend({**value, other: one} for other in near(key) if hashable(other) and other not in value)
     return found
 

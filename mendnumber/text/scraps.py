@@ -59,5 +59,5 @@ def row_texts(text):
 
 def is_line_of_rows(text):
     """Whether a text has the form of a line with the rows of a state."""
-    state, colon, rest = text.partition(": ")
-    return colon != "" and has_number_form(state) and row_texts(rest) is not None
+    state, _, rest = text.partition(": ")
+    return has_number_form(state) and row_texts(rest) is not None

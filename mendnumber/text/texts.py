@@ -103,7 +103,7 @@ def read_paper(text):
         if not _has_line_form(lines[0], at, line):
             raise ParseError(at)
     paper = ("grows", tuple([word_in(line) for line in lines[1:]])) if lines[0] == "grows" else _bounded_in(lines)
-    if not _has_paper_form(paper) or write_paper(paper) != text:
+    if not _has_paper_form(paper):
         raise ParseError(None)
     return paper
 

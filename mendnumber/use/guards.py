@@ -2,7 +2,7 @@
 
 from mendnumber.base.integers import is_number
 from mendnumber.base.orders import is_ascending
-from mendnumber.base.words import is_sign, is_word
+from mendnumber.base.words import is_sign
 from mendnumber.core.readers import Reader
 from mendnumber.decide.heights import first_word_above, highest_rows
 from mendnumber.forms.form import form_without
@@ -49,9 +49,7 @@ class Guarding:
             return False
         if self._limit is None:
             return is_family(value) and grows(left.states, self._target.states, value)
-        if not is_word(value) or value not in left:
-            return False
-        return Reader(self._target, self._tariff).word_cost(value) > self._limit
+        return value in left and Reader(self._target, self._tariff).word_cost(value) > self._limit
 
 
 def ranked_guards(tolls):

@@ -119,9 +119,6 @@ class Mender:
         return other
 
     def __call__(self, word):
-        check_word(word)
-        if word not in self._plan.source:
-            raise InvalidOperation("this is no word of the source")
         return Mender(self._plan, None, None).foretell(word)
 
     def __len__(self):
