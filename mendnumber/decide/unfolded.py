@@ -13,6 +13,8 @@ class Unfolded:
         states = source.states
         start = (0, cut(reader.start, limit))
         numbers = {start: 0}
+        # Several states of the source often have the same rows.
+        rows = {}
         self.places = [start]
         self.moves = []
         while len(self.moves) < len(self.places):
@@ -20,7 +22,9 @@ class Unfolded:
             moves = states[state][0]
             kept = {}
             for sign in sorted(moves):
-                place = (moves[sign], reader.cut_behind(row, sign, limit))
+                if (row, sign) not in rows:
+                    rows[row, sign] = reader.cut_behind(row, sign, limit)
+                place = (moves[sign], rows[row, sign])
                 # From a row of numbers that are all too great no words go on that cost less.
                 if min(place[1]) < limit:
                     if place not in numbers:

@@ -272,16 +272,34 @@ def _last_states(unfolded, reader):
 def _ways_back(unfolded, peak, replacements):
     """A dict from triples of a number, a sign and the state behind it to the state ahead of it, and a word."""
     ways = {}
-    parts = {}
+    steps = {}
+    parts = _words_for_signs(peak.reader, replacements)
     for number, (_, row) in enumerate(unfolded.places):
         moves = unfolded.moves[number]
         for sign in moves:
-            behind = unfolded.places[moves[sign]][1]
-            for to in range(len(behind)):
-                # Greater numbers are cut, and no way of least cost goes through them.
-                if behind[to] <= peak.height:
-                    near = min([at for at, price in peak.reader.ways[sign][to] if row[at] + price == behind[to]])
-                    if (sign, near, to) not in parts:
-                        parts[sign, near, to] = "".join(replacements.with_put_behind(sign, near, to))
-                    ways[number, sign, to] = (near, parts[sign, near, to])
+            if (row, sign) not in steps:
+                steps[row, sign] = _steps_back(row, sign, unfolded.places[moves[sign]][1], peak)
+            for to, near in steps[row, sign]:
+                ways[number, sign, to] = (near, parts[sign, near, to])
     return ways
+
+
+def _words_for_signs(reader, replacements):
+    """A dict from triples of a sign and the states ahead and behind to the word that takes its place."""
+    parts = {}
+    for sign in reader.ways:
+        for to, ways in enumerate(reader.ways[sign]):
+            for near, _ in ways:
+                parts[sign, near, to] = "".join(replacements.with_put_behind(sign, near, to))
+    return parts
+
+
+def _steps_back(row, sign, behind, peak):
+    """The pairs of a state behind a row and a sign, and a state ahead of it on a way of least cost."""
+    steps = []
+    for to in range(len(behind)):
+        # Greater numbers are cut, and no way of least cost goes through them.
+        if behind[to] <= peak.height:
+            near = min([at for at, price in peak.reader.ways[sign][to] if row[at] + price == behind[to]])
+            steps.append((to, near))
+    return steps
