@@ -15,6 +15,7 @@ class Mender:
     """A hurried mender: it gets a word piece by piece and pays at most the hurried number."""
 
     def __init__(self, source, target, prices, *, ahead=0):
+        # The plan of another mender spares finding it again.
         if isinstance(source, Plan):
             self._plan = source
         else:
